@@ -1,0 +1,66 @@
+// Package loom: programs of a stack machine: see DOC.md.
+package loom
+
+import (
+	"loom/api"
+	"loom/fault"
+	"loom/fit"
+	"loom/module"
+)
+
+// Check tells whether bytes are a module, and one that fits (P3, P4).
+func Check(bytes string) (api.Errno, int) {
+	_, errno, at := fitting(bytes)
+	return errno, at
+}
+
+// fitting gives a module that fits, or the errors of Check.
+func fitting(bytes string) (m *module.Module, errno api.Errno, at int) {
+	if len(bytes) > api.MaxBytes {
+		return nil, api.ErrLong, 0
+	}
+	defer func() {
+		caught := recover()
+		if caught == nil {
+			return
+		}
+		given, ok := caught.(fault.Fault)
+		if !ok {
+			// Not given up but a mistake of the program: an answer would hide it.
+			panic(caught)
+		}
+		m, errno, at = nil, given.Errno, given.At
+	}()
+	m = module.Read(bytes)
+	fit.Check(m)
+	return m, api.OK, 0
+}
+
+// Pack gives a module's bytes as short as they can be (P5).
+func Pack(bytes string) (string, api.Errno, int) { return "", api.OK, 0 }
+
+// Print gives a module as a text (P6).
+func Print(bytes string) (string, api.Errno, int) { return "", api.OK, 0 }
+
+// Assemble gives the bytes of a module that is written as a text (P7).
+func Assemble(text string) (string, api.Errno, int) { return "", api.OK, 0 }
+
+// Instance is a module that can be run.
+type Instance struct{}
+
+// New makes one (P8).
+func New(bytes string) (*Instance, api.Errno, int) { return nil, api.OK, 0 }
+
+// Call calls a function that is exported (P9).
+func (i *Instance) Call(name string, args []int64, fuel int) (api.Done, api.Errno) {
+	return api.Done{}, api.OK
+}
+
+// Global tells what a global that is exported is (P9).
+func (i *Instance) Global(name string) (int64, api.Errno) { return 0, api.OK }
+
+// Bytes tells what stands in the memory (P9).
+func (i *Instance) Bytes(from int, n int) (string, api.Errno) { return "", api.OK }
+
+// Pages tells how many pages the memory has (P9).
+func (i *Instance) Pages() int { return 0 }

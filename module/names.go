@@ -1,0 +1,96 @@
+package module
+
+import (
+	"loom/api"
+	"loom/scan"
+)
+
+const (
+	namesOfFuncs  byte = 1
+	namesOfLocals byte = 2
+)
+
+// takeNames takes the section of names: its word, then perhaps each part.
+func (m *Module) takeNames(r *scan.Reader) {
+	r.Exactly("\x04name")
+	takePart(r, namesOfFuncs, func() {
+		m.Names.Funcs = takeNamesOf(r, len(m.Funcs))
+	})
+	takePart(r, namesOfLocals, func() {
+		m.takeLocalNames(r)
+	})
+}
+
+// takePart takes a part of the names, if it stands there.
+func takePart(r *scan.Reader, which byte, take func()) {
+	if r.Done() || r.Peek() != which {
+		return
+	}
+	r.Byte()
+	r.Within(take)
+}
+
+func (m *Module) takeLocalNames(r *scan.Reader) {
+	least := 0
+	for range r.Count(len(m.Funcs)) {
+		function := takeIndex(r, least, len(m.Funcs))
+		least = function + 1
+		many := len(m.Params(function)) + len(m.Codes[function].Locals)
+		m.Names.Locals = append(m.Names.Locals, LocalNames{Func: function, Names: takeNamesOf(r, many)})
+	}
+}
+
+// takeNamesOf takes names of some of so many things, by rising indices, no two the same.
+func takeNamesOf(r *scan.Reader, many int) []Name {
+	var names []Name
+	least := 0
+	for range r.Count(many) {
+		index := takeIndex(r, least, many)
+		least = index + 1
+		at := r.At()
+		text := r.Text(r.Count(api.MaxName))
+		if !nameable(text) || named(names, text) {
+			scan.Refuse(at)
+		}
+		names = append(names, Name{Index: index, Text: text})
+	}
+	return names
+}
+
+// takeIndex takes an index from least on, below end.
+func takeIndex(r *scan.Reader, least, end int) int {
+	n := r.U()
+	if int64(n.Value) < int64(least) || int64(n.Value) >= int64(end) {
+		scan.Refuse(n.At)
+	}
+	return int(n.Value)
+}
+
+// named tells whether one of the names is this text.
+func named(names []Name, text string) bool {
+	for _, n := range names {
+		if n.Text == text {
+			return true
+		}
+	}
+	return false
+}
+
+// nameable tells whether a text may be a name.
+func nameable(text string) bool {
+	for i := range len(text) {
+		if !inName(text[i]) {
+			return false
+		}
+	}
+	return text != ""
+}
+
+// inName tells whether a byte may be in a name.
+func inName(b byte) bool {
+	switch {
+	case 'a' <= b && b <= 'z', 'A' <= b && b <= 'Z', '0' <= b && b <= '9':
+		return true
+	}
+	return b == '_' || b == '.'
+}
