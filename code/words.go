@@ -61,3 +61,14 @@ func bare(word byte) bool {
 	}
 	return word == I32Wrap || word == I64ExtendS || word == I64ExtendU
 }
+
+// UsualAlign gives the align that a load or store has if none is told: the greatest that it may have.
+func UsualAlign(word byte) uint32 {
+	switch word {
+	case I32Load8S, I32Load8U, I32Store8:
+		return 0
+	case I64Load, I64Store:
+		return 3
+	}
+	return 2
+}

@@ -188,34 +188,30 @@ func (b *body) checkMemory(in code.Instruction) {
 	case code.MemoryGrow:
 		b.take(code.I32)
 		b.put(code.I32)
-	case code.I32Load:
-		b.load(in, 2, code.I32)
 	case code.I64Load:
-		b.load(in, 3, code.I64)
-	case code.I32Load8S, code.I32Load8U:
-		b.load(in, 0, code.I32)
-	case code.I32Store:
-		b.store(in, 2, code.I32)
+		b.load(in, code.I64)
+	case code.I32Load, code.I32Load8S, code.I32Load8U:
+		b.load(in, code.I32)
 	case code.I64Store:
-		b.store(in, 3, code.I64)
-	case code.I32Store8:
-		b.store(in, 0, code.I32)
+		b.store(in, code.I64)
+	case code.I32Store, code.I32Store8:
+		b.store(in, code.I32)
 	}
 }
 
-func (b *body) load(in code.Instruction, most uint32, kind code.Kind) {
-	b.align(in, most)
+func (b *body) load(in code.Instruction, kind code.Kind) {
+	b.align(in)
 	b.take(code.I32)
 	b.put(kind)
 }
 
-func (b *body) store(in code.Instruction, most uint32, kind code.Kind) {
-	b.align(in, most)
+func (b *body) store(in code.Instruction, kind code.Kind) {
+	b.align(in)
 	b.take(code.I32, kind)
 }
 
-func (b *body) align(in code.Instruction, most uint32) {
-	if in.Align > most {
+func (b *body) align(in code.Instruction) {
+	if in.Align > code.UsualAlign(in.Word) {
 		b.refuseKinds()
 	}
 }

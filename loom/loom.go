@@ -6,6 +6,7 @@ import (
 	"loom/fault"
 	"loom/fit"
 	"loom/module"
+	"loom/show"
 )
 
 // Check tells whether bytes are a module, and one that fits (P3, P4).
@@ -37,10 +38,19 @@ func fitting(bytes string) (m *module.Module, errno api.Errno, at int) {
 }
 
 // Pack gives a module's bytes as short as they can be (P5).
-func Pack(bytes string) (string, api.Errno, int) { return "", api.OK, 0 }
+func Pack(bytes string) (string, api.Errno, int) { return told(bytes, module.Write) }
 
 // Print gives a module as a text (P6).
-func Print(bytes string) (string, api.Errno, int) { return "", api.OK, 0 }
+func Print(bytes string) (string, api.Errno, int) { return told(bytes, show.Text) }
+
+// told gives what tell tells of a module that fits, or the errors of Check.
+func told(bytes string, tell func(*module.Module) string) (string, api.Errno, int) {
+	m, errno, at := fitting(bytes)
+	if errno != api.OK {
+		return "", errno, at
+	}
+	return tell(m), api.OK, 0
+}
 
 // Assemble gives the bytes of a module that is written as a text (P7).
 func Assemble(text string) (string, api.Errno, int) { return "", api.OK, 0 }

@@ -1,4 +1,4 @@
-// Package module: a module's parts, read from its bytes. Each knows the places that are told if it does not fit.
+// Package module: a module's parts, read from its bytes and written as these. Each knows the places that are told if it does not fit.
 package module
 
 import (
@@ -115,4 +115,24 @@ func (m *Module) Params(function int) []code.Kind {
 		return nil
 	}
 	return m.Types[index].In
+}
+
+// OfLocals gives the names of a function's params and locals.
+func (n Names) OfLocals(function int) []Name {
+	for _, l := range n.Locals {
+		if l.Func == function {
+			return l.Names
+		}
+	}
+	return nil
+}
+
+// NameAt gives the name of what has an index; the empty text if it has none.
+func NameAt(names []Name, index int) string {
+	for _, n := range names {
+		if n.Index == index {
+			return n.Text
+		}
+	}
+	return ""
 }

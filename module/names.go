@@ -3,7 +3,11 @@ package module
 import (
 	"loom/api"
 	"loom/scan"
+	"loom/write"
 )
+
+// nameWord is how the section of names begins: a word, and its size ahead.
+const nameWord = "\x04name"
 
 const (
 	namesOfFuncs  byte = 1
@@ -12,7 +16,7 @@ const (
 
 // takeNames takes the section of names: its word, then perhaps each part.
 func (m *Module) takeNames(r *scan.Reader) {
-	r.Exactly("\x04name")
+	r.Exactly(nameWord)
 	takePart(r, namesOfFuncs, func() {
 		m.Names.Funcs = takeNamesOf(r, len(m.Funcs))
 	})
@@ -93,4 +97,37 @@ func inName(b byte) bool {
 		return true
 	}
 	return b == '_' || b == '.'
+}
+
+// write writes the section of names: of its parts those that have any, and no section if none has.
+func (n Names) write(w *write.Writer) {
+	parts := &write.Writer{}
+	writePart(parts, namesOfFuncs, n.Funcs, writeName)
+	writePart(parts, namesOfLocals, n.tellingLocals(), writeLocalNames)
+	if parts.All() == "" {
+		return
+	}
+	w.Bytes(nameSection)
+	w.Sized(nameWord + parts.All())
+}
+
+// tellingLocals leaves out functions without names of locals.
+func (n Names) tellingLocals() []LocalNames {
+	var telling []LocalNames
+	for _, l := range n.Locals {
+		if len(l.Names) > 0 {
+			telling = append(telling, l)
+		}
+	}
+	return telling
+}
+
+func writeName(w *write.Writer, n Name) {
+	w.U(uint32(n.Index))
+	w.Sized(n.Text)
+}
+
+func writeLocalNames(w *write.Writer, l LocalNames) {
+	w.U(uint32(l.Func))
+	write.List(w, l.Names, writeName)
 }

@@ -9,6 +9,9 @@ import (
 const (
 	head       = "\x00asm\x01\x00\x00\x00"
 	maxMembers = 20 // functions of an element
+
+	typeByte  byte = 0x60 // ahead of a type
+	tableByte byte = 0x70 // ahead of a table's limits
 )
 
 // The bytes that tell which section it is.
@@ -113,14 +116,14 @@ func list[T any](r *scan.Reader, most int, take func(*scan.Reader) T) []T {
 
 func takeType(r *scan.Reader) Type {
 	var t Type
-	r.One(0x60)
+	r.One(typeByte)
 	t.In = list(r, api.MaxParams, code.TakeKind)
 	t.Out = list(r, api.MaxResults, code.TakeKind)
 	return t
 }
 
 func takeTable(r *scan.Reader) Limits {
-	r.One(0x70)
+	r.One(tableByte)
 	return takeLimits(r)
 }
 
@@ -157,7 +160,7 @@ func takeExport(r *scan.Reader) Export {
 	e := Export{NameAt: r.At()}
 	e.Name = r.Text(r.Count(api.MaxName))
 	for i := range len(e.Name) {
-		if !exportable(e.Name[i]) {
+		if !Plain(e.Name[i]) {
 			scan.Refuse(e.NameAt)
 		}
 	}
@@ -166,8 +169,8 @@ func takeExport(r *scan.Reader) Export {
 	return e
 }
 
-// exportable tells whether a byte may be in the name of an export.
-func exportable(b byte) bool {
+// Plain tells whether a byte stands for itself in a string of a text: no other may be in the name of an export.
+func Plain(b byte) bool {
 	return 32 <= b && b <= 126 && b != '"' && b != '\\'
 }
 
