@@ -9,14 +9,22 @@ import (
 	"loom/loom"
 )
 
+// answer is what the calls that look at bytes tell of them.
 type answer struct {
-	errno api.Errno
-	at    int
+	errno           api.Errno
+	at              int
+	packed, printed string
 }
 
-func check(bytes string) answer {
+// answerTo asks all of them; where they do not agree on the error and its place, the error is one that there is not.
+func answerTo(bytes string) answer {
 	errno, at := loom.Check(bytes)
-	return answer{errno, at}
+	packed, packErrno, packAt := loom.Pack(bytes)
+	printed, printErrno, printAt := loom.Print(bytes)
+	if packErrno != errno || printErrno != errno || packAt != at || printAt != at {
+		return answer{errno: -1}
+	}
+	return answer{errno, at, packed, printed}
 }
 
 // odd are strings that are no modules, or hardly.
@@ -44,20 +52,22 @@ func changed(t *testing.T) func(yield func(string) bool) {
 	}
 }
 
-// P1: whatever the bytes are, Check ends with an error that it may tell, and a place that there is; without an error the place is 0.
-func TestCheckAnswers(t *testing.T) {
+// P1: whatever the bytes are, Check, Pack and Print end with one error that they may tell, a place that there is, and nothing else; without an error the place is 0. P5, P6: what Pack gives fits, packs to itself, is no longer, and is printed alike.
+func TestAnswers(t *testing.T) {
 	ask := func(bytes string) {
 		t.Helper()
-		a := check(bytes)
+		a := answerTo(bytes)
 		switch {
-		case a.errno == api.OK || a.errno == api.ErrLong:
-			if a.at != 0 {
-				t.Errorf("P1: Check(%x) tells the place %d beside %d", bytes, a.at, a.errno)
+		case a.errno == api.OK:
+			if again := answerTo(a.packed); a.at != 0 || again != a || len(a.packed) > len(bytes) {
+				t.Errorf("P1, P5, P6: of %x: %v; of what is packed: %v", bytes, a, again)
 			}
-		case a.errno < api.ErrBytes || a.errno > api.ErrTwice:
-			t.Errorf("P1: Check(%x) tells the error %d", bytes, a.errno)
-		case a.at < 0 || a.at > len(bytes) || a.errno != api.ErrBytes && a.at >= len(bytes):
-			t.Errorf("P1: Check(%x) tells the place %d beside %d", bytes, a.at, a.errno)
+		case a.packed != "" || a.printed != "":
+			t.Errorf("P1: of %x there is more than an error: %v", bytes, a)
+		case a.errno < api.ErrLong || a.errno > api.ErrTwice:
+			t.Errorf("P1: of %x a call tells the error %d", bytes, a.errno)
+		case a.at < 0 || a.at > len(bytes) || a.errno != api.ErrBytes && a.at >= len(bytes) || a.errno == api.ErrLong && a.at != 0:
+			t.Errorf("P1: of %x a call tells the place %d beside %d", bytes, a.at, a.errno)
 		}
 	}
 	for _, bytes := range odd() {
@@ -85,7 +95,7 @@ func TestCallsEnd(t *testing.T) {
 	}
 }
 
-// P2: what Check answers hangs on its bytes alone, whatever was asked ahead, or is asked at the same time.
+// P2: what is answered hangs on the bytes alone, whatever was asked ahead, or is asked at the same time.
 func TestAnswersHangOnBytes(t *testing.T) {
 	var all []string
 	for bytes := range changed(t) {
@@ -95,11 +105,11 @@ func TestAnswersHangOnBytes(t *testing.T) {
 	}
 	first := make([]answer, len(all))
 	for i, bytes := range all {
-		first[i] = check(bytes)
+		first[i] = answerTo(bytes)
 	}
 	for i := len(all) - 1; i >= 0; i-- {
-		if again := check(all[i]); again != first[i] {
-			t.Errorf("P2: Check(%x) = %v, then %v", all[i], first[i], again)
+		if again := answerTo(all[i]); again != first[i] {
+			t.Errorf("P2: of %x: %v, then %v", all[i], first[i], again)
 		}
 	}
 	var group sync.WaitGroup
@@ -108,8 +118,8 @@ func TestAnswersHangOnBytes(t *testing.T) {
 		go func() {
 			defer group.Done()
 			for i := worker; i < len(all); i += 3 {
-				if again := check(strings.Clone(all[i])); again != first[i] {
-					t.Errorf("P2: Check(%x) = %v, then %v", all[i], first[i], again)
+				if again := answerTo(strings.Clone(all[i])); again != first[i] {
+					t.Errorf("P2: of %x: %v, then %v", all[i], first[i], again)
 				}
 			}
 		}()

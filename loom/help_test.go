@@ -9,7 +9,7 @@ import (
 	"loom/loom"
 )
 
-// A module in these tests is written as words with blanks between: bytes as two digits; `'abc` for these letters; `[` and `]` around what has its size ahead; `!` ahead of the byte of which the place is asked for (at the end: behind the last one).
+// A module in these tests is written as words with blanks between: bytes as two digits; `'abc` for these letters; `[` and `]` around what has its size ahead; `!` ahead of the byte of which the place is asked for (at the end: behind the last one). `u` ahead of the digits of a U, or of `[`, and `s` ahead of those of an S: this number, or size, is written longer than it needs to be.
 
 const head = "00 'asm 01 00 00 00 "
 
@@ -33,13 +33,17 @@ func part(t *testing.T, words []string) (bytes string, at int, rest []string) {
 		switch {
 		case w == "]":
 			return bytes, at, append([]string{w}, words...)
-		case w == "[":
+		case w == "[", w == "u[":
 			inner, innerAt, behind := part(t, words)
 			if len(behind) == 0 {
 				t.Fatal("a ] is missing")
 			}
 			words = behind[1:]
-			bytes += u(len(inner))
+			size := u(len(inner))
+			if w == "u[" {
+				size = longer(size, 0)
+			}
+			bytes += size
 			if innerAt >= 0 {
 				at = len(bytes) + innerAt
 			}
@@ -48,15 +52,47 @@ func part(t *testing.T, words []string) (bytes string, at int, rest []string) {
 			at = len(bytes)
 		case w[0] == '\'':
 			bytes += w[1:]
-		default:
-			b, err := hex.DecodeString(w)
-			if err != nil {
-				t.Fatalf("%s: %v", w, err)
+		case w[0] == 'u':
+			bytes += longer(raw(t, w[1:]), 0)
+		case w[0] == 's':
+			number := raw(t, w[1:])
+			if number[len(number)-1]&0x40 != 0 {
+				bytes += longer(number, 0x7f)
+			} else {
+				bytes += longer(number, 0)
 			}
-			bytes += string(b)
+		default:
+			bytes += raw(t, w)
 		}
 	}
 	return bytes, at, nil
+}
+
+// raw gives the bytes of digits.
+func raw(t *testing.T, digits string) string {
+	t.Helper()
+	b, err := hex.DecodeString(digits)
+	if err != nil || len(b) == 0 {
+		t.Fatalf("%s: %v", digits, err)
+	}
+	return string(b)
+}
+
+// longer writes a number with two bytes more, filled up with these bits.
+func longer(number string, fill byte) string {
+	last := len(number) - 1
+	return number[:last] + string([]byte{number[last] | 0x80, fill | 0x80, fill})
+}
+
+// short gives a text with no number longer than it needs to be.
+func short(text string) string {
+	words := strings.Fields(text)
+	for i, w := range words {
+		if w[0] == 'u' || w[0] == 's' {
+			words[i] = w[1:]
+		}
+	}
+	return strings.Join(words, " ")
 }
 
 // u writes a number as short as it can be.
