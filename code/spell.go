@@ -69,6 +69,17 @@ func spellChange(word byte) string {
 	return ""
 }
 
+// Words gives the bytes of all instructions by their words.
+func Words() map[string]byte {
+	words := map[string]byte{}
+	for b := range 256 {
+		if word := Spell(byte(b)); word != "" {
+			words[word] = byte(b)
+		}
+	}
+	return words
+}
+
 // String gives the word of a kind.
 func (k Kind) String() string {
 	switch k {
@@ -78,4 +89,15 @@ func (k Kind) String() string {
 		return "i64"
 	}
 	return ""
+}
+
+// KindOf gives the kind of a word; Unknown if it is no kind's.
+func KindOf(word string) Kind {
+	switch word {
+	case I32.String():
+		return I32
+	case I64.String():
+		return I64
+	}
+	return Unknown
 }

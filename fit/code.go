@@ -16,7 +16,7 @@ func checkCode(m *module.Module, function int) {
 	c := m.Codes[function]
 	b := &body{module: m, locals: slices.Concat(t.In, c.Locals)}
 	b.enter(code.Block, module.Type{Out: t.Out})
-	for in := range c.Instructions() {
+	for in := range c.Instructions {
 		b.at = in.At
 		b.check(in)
 	}

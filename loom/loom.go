@@ -3,6 +3,7 @@ package loom
 
 import (
 	"loom/api"
+	"loom/assemble"
 	"loom/fault"
 	"loom/fit"
 	"loom/module"
@@ -16,10 +17,20 @@ func Check(bytes string) (api.Errno, int) {
 }
 
 // fitting gives a module that fits, or the errors of Check.
-func fitting(bytes string) (m *module.Module, errno api.Errno, at int) {
+func fitting(bytes string) (*module.Module, api.Errno, int) {
 	if len(bytes) > api.MaxBytes {
 		return nil, api.ErrLong, 0
 	}
+	var m *module.Module
+	errno, at := givenUp(func() {
+		m = module.Read(bytes)
+		fit.Check(m)
+	})
+	return m, errno, at
+}
+
+// givenUp runs what may give up, and tells with what it did, or OK and 0.
+func givenUp(run func()) (errno api.Errno, at int) {
 	defer func() {
 		caught := recover()
 		if caught == nil {
@@ -30,11 +41,10 @@ func fitting(bytes string) (m *module.Module, errno api.Errno, at int) {
 			// Not given up but a mistake of the program: an answer would hide it.
 			panic(caught)
 		}
-		m, errno, at = nil, given.Errno, given.At
+		errno, at = given.Errno, given.At
 	}()
-	m = module.Read(bytes)
-	fit.Check(m)
-	return m, api.OK, 0
+	run()
+	return api.OK, 0
 }
 
 // Pack gives a module's bytes as short as they can be (P5).
@@ -53,7 +63,20 @@ func told(bytes string, tell func(*module.Module) string) (string, api.Errno, in
 }
 
 // Assemble gives the bytes of a module that is written as a text (P7).
-func Assemble(text string) (string, api.Errno, int) { return "", api.OK, 0 }
+func Assemble(text string) (string, api.Errno, int) {
+	if len(text) > api.MaxText {
+		return "", api.ErrLong, 0
+	}
+	var bytes string
+	errno, at := givenUp(func() { bytes = module.Write(assemble.Module(text)) })
+	if errno == api.OK && len(bytes) > api.MaxBytes {
+		errno = api.ErrLong
+	}
+	if errno != api.OK {
+		return "", errno, at
+	}
+	return bytes, api.OK, 0
+}
 
 // Instance is a module that can be run.
 type Instance struct{}

@@ -3,6 +3,7 @@ package module
 
 import (
 	"iter"
+	"slices"
 
 	"loom/code"
 	"loom/scan"
@@ -26,6 +27,11 @@ type Module struct {
 // Type is what goes into a function or block, and what comes out.
 type Type struct {
 	In, Out []code.Kind
+}
+
+// Same tells whether a type has the same kinds as another one.
+func (t Type) Same(other Type) bool {
+	return slices.Equal(t.In, other.In) && slices.Equal(t.Out, other.Out)
 }
 
 // Limits are the least number of something, and perhaps the greatest.
@@ -74,13 +80,8 @@ type Element struct {
 
 // Code is what a function does.
 type Code struct {
-	Locals []code.Kind
-	body   scan.Reader
-}
-
-// Instructions tells the code's instructions one by one, its own end last.
-func (c Code) Instructions() iter.Seq[code.Instruction] {
-	return code.Instructions(c.body)
+	Locals       []code.Kind
+	Instructions iter.Seq[code.Instruction] // tells them one by one, the code's own end last
 }
 
 // Data is bytes for the memory, from a place of it on.
@@ -135,4 +136,14 @@ func NameAt(names []Name, index int) string {
 		}
 	}
 	return ""
+}
+
+// IndexOf gives the index of what has a name; false if nothing has it.
+func IndexOf(names []Name, text string) (int, bool) {
+	for _, n := range names {
+		if n.Text == text {
+			return n.Index, true
+		}
+	}
+	return 0, false
 }

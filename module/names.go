@@ -2,6 +2,7 @@ package module
 
 import (
 	"loom/api"
+	"loom/letter"
 	"loom/scan"
 	"loom/write"
 )
@@ -53,7 +54,7 @@ func takeNamesOf(r *scan.Reader, many int) []Name {
 		least = index + 1
 		at := r.At()
 		text := r.Text(r.Count(api.MaxName))
-		if !nameable(text) || named(names, text) {
+		if _, twice := IndexOf(names, text); twice || !letter.Name(text) {
 			scan.Refuse(at)
 		}
 		names = append(names, Name{Index: index, Text: text})
@@ -68,35 +69,6 @@ func takeIndex(r *scan.Reader, least, end int) int {
 		scan.Refuse(n.At)
 	}
 	return int(n.Value)
-}
-
-// named tells whether one of the names is this text.
-func named(names []Name, text string) bool {
-	for _, n := range names {
-		if n.Text == text {
-			return true
-		}
-	}
-	return false
-}
-
-// nameable tells whether a text may be a name.
-func nameable(text string) bool {
-	for i := range len(text) {
-		if !inName(text[i]) {
-			return false
-		}
-	}
-	return text != ""
-}
-
-// inName tells whether a byte may be in a name.
-func inName(b byte) bool {
-	switch {
-	case 'a' <= b && b <= 'z', 'A' <= b && b <= 'Z', '0' <= b && b <= '9':
-		return true
-	}
-	return b == '_' || b == '.'
 }
 
 // write writes the section of names: of its parts those that have any, and no section if none has.

@@ -3,12 +3,15 @@ package module
 import (
 	"loom/api"
 	"loom/code"
+	"loom/letter"
 	"loom/scan"
 )
 
+// MaxMembers is how many functions an element may have.
+const MaxMembers = 20
+
 const (
-	head       = "\x00asm\x01\x00\x00\x00"
-	maxMembers = 20 // functions of an element
+	head = "\x00asm\x01\x00\x00\x00"
 
 	typeByte  byte = 0x60 // ahead of a type
 	tableByte byte = 0x70 // ahead of a table's limits
@@ -159,26 +162,19 @@ func takeGlobal(r *scan.Reader) Global {
 func takeExport(r *scan.Reader) Export {
 	e := Export{NameAt: r.At()}
 	e.Name = r.Text(r.Count(api.MaxName))
-	for i := range len(e.Name) {
-		if !Plain(e.Name[i]) {
-			scan.Refuse(e.NameAt)
-		}
+	if !letter.ExportName(e.Name) {
+		scan.Refuse(e.NameAt)
 	}
 	e.Of = r.One(OfFunc, OfTable, OfMemory, OfGlobal)
 	e.Index = r.U()
 	return e
 }
 
-// Plain tells whether a byte stands for itself in a string of a text: no other may be in the name of an export.
-func Plain(b byte) bool {
-	return 32 <= b && b <= 126 && b != '"' && b != '\\'
-}
-
 func takeElement(r *scan.Reader) Element {
 	e := Element{At: r.At()}
 	r.One(0)
 	e.Place = takeConstant(r)
-	e.Funcs = list(r, maxMembers, (*scan.Reader).U)
+	e.Funcs = list(r, MaxMembers, (*scan.Reader).U)
 	return e
 }
 
@@ -204,8 +200,8 @@ func takeCode(r *scan.Reader) Code {
 	var c Code
 	r.Within(func() {
 		c.Locals = takeLocals(r)
-		c.body = *r
-		for in := range c.Instructions() {
+		c.Instructions = code.Instructions(*r)
+		for in := range c.Instructions {
 			r.MoveTo(in.Behind)
 		}
 	})

@@ -103,7 +103,7 @@ func writeData(w *write.Writer, d Data) {
 func writeCode(w *write.Writer, c Code) {
 	w.Within(func(inner *write.Writer) {
 		write.List(inner, runs(c.Locals), writeRun)
-		for in := range c.Instructions() {
+		for in := range c.Instructions {
 			in.Write(inner)
 		}
 	})

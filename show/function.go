@@ -16,7 +16,7 @@ const bodyInward = 2
 func (p *printer) function(m *module.Module, function int) {
 	p.line(1, opening(m, function))
 	inward := bodyInward
-	for in := range m.Codes[function].Instructions() {
+	for in := range m.Codes[function].Instructions {
 		if in.Word == code.Else || in.Word == code.End {
 			inward--
 		}

@@ -6,6 +6,7 @@ import (
 	"strings"
 
 	"loom/code"
+	"loom/letter"
 	"loom/module"
 	"loom/scan"
 )
@@ -135,7 +136,7 @@ func quoted(bytes string) string {
 	s.WriteByte('"')
 	for i := range len(bytes) {
 		b := bytes[i]
-		if module.Plain(b) {
+		if letter.Plain(b) {
 			s.WriteByte(b)
 			continue
 		}
