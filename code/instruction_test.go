@@ -79,11 +79,17 @@ func TestSpell(t *testing.T) {
 			t.Errorf("the byte %x is spelled %q", b, word)
 		}
 		seen[word] = true
+		if found, ok := Words()[word]; ok != (word != "") || ok && found != byte(b) {
+			t.Errorf("of the word %q the byte is %x", word, found)
+		}
 	}
 	for kind, want := range map[Kind]string{I32: "i32", I64: "i64", Unknown: ""} {
-		if got := kind.String(); got != want {
+		if got := kind.String(); got != want || KindOf(want) != kind {
 			t.Errorf("the kind %x is %q", byte(kind), got)
 		}
+	}
+	if KindOf("i33") != Unknown || KindOf("I32") != Unknown {
+		t.Error("other words are kinds")
 	}
 }
 

@@ -1,6 +1,7 @@
 package loom_test
 
 import (
+	"iter"
 	"strings"
 	"sync"
 	"testing"
@@ -16,7 +17,14 @@ type answer struct {
 	packed, printed string
 }
 
-// answerTo asks all of them; where they do not agree on the error and its place, the error is one that there is not.
+// textAnswer is what Assemble tells of a text.
+type textAnswer struct {
+	bytes string
+	errno api.Errno
+	at    int
+}
+
+// answerTo asks all that look at bytes; where they do not agree on the error and its place, the error is one that there is not.
 func answerTo(bytes string) answer {
 	errno, at := loom.Check(bytes)
 	packed, packErrno, packAt := loom.Pack(bytes)
@@ -25,6 +33,23 @@ func answerTo(bytes string) answer {
 		return answer{errno: -1}
 	}
 	return answer{errno, at, packed, printed}
+}
+
+func answerToText(text string) textAnswer {
+	bytes, errno, at := loom.Assemble(text)
+	return textAnswer{bytes, errno, at}
+}
+
+// comesBack asks of bytes that fit what P10 tells: what is printed is assembled to what is packed, and that is printed alike.
+func comesBack(t *testing.T, bytes string) {
+	t.Helper()
+	a := answerTo(bytes)
+	if back := answerToText(a.printed); back != (textAnswer{bytes: a.packed}) {
+		t.Errorf("P10: of %x: %v; of what is printed: %v", bytes, a, back)
+	}
+	if again := answerTo(a.packed); again != a {
+		t.Errorf("P10: of %x: %v; of what is packed: %v", bytes, a, again)
+	}
 }
 
 // odd are strings that are no modules, or hardly.
@@ -36,7 +61,7 @@ func odd() []string {
 }
 
 // changed tells the sample with each byte changed to each other one, and all that is cut off or doubled.
-func changed(t *testing.T) func(yield func(string) bool) {
+func changed(t *testing.T) iter.Seq[string] {
 	whole, _ := build(t, head+sample)
 	return func(yield func(string) bool) {
 		for i := range len(whole) {
@@ -52,16 +77,17 @@ func changed(t *testing.T) func(yield func(string) bool) {
 	}
 }
 
-// P1: whatever the bytes are, Check, Pack and Print end with one error that they may tell, a place that there is, and nothing else; without an error the place is 0. P5, P6: what Pack gives fits, packs to itself, is no longer, and is printed alike.
+// P1: whatever the bytes are, Check, Pack and Print end with one error that they may tell, a place that there is, and nothing else; without an error the place is 0. P5, P6, P10: what Pack gives fits, packs to itself, is no longer, and is printed alike; what is printed is assembled to it.
 func TestAnswers(t *testing.T) {
 	ask := func(bytes string) {
 		t.Helper()
 		a := answerTo(bytes)
 		switch {
 		case a.errno == api.OK:
-			if again := answerTo(a.packed); a.at != 0 || again != a || len(a.packed) > len(bytes) {
-				t.Errorf("P1, P5, P6: of %x: %v; of what is packed: %v", bytes, a, again)
+			if a.at != 0 || len(a.packed) > len(bytes) {
+				t.Errorf("P1, P5: of %x: %v", bytes, a)
 			}
+			comesBack(t, bytes)
 		case a.packed != "" || a.printed != "":
 			t.Errorf("P1: of %x there is more than an error: %v", bytes, a)
 		case a.errno < api.ErrLong || a.errno > api.ErrTwice:
@@ -75,6 +101,83 @@ func TestAnswers(t *testing.T) {
 	}
 	for bytes := range changed(t) {
 		ask(bytes)
+	}
+}
+
+// changedText tells a text that has something of all with each byte changed to some others, and all that is cut off, left out or doubled.
+func changedText(yield func(string) bool) {
+	const whole = `(module (type $t (func (param i32 i64) (result i32))) (type (func)) ;; types
+(func $f (type $t) (param $x i32) (param i64) (result i32) (local $y i64) (local i32)
+  block $a (result i32) i32.const -12 local.get $x br_if $a block $b loop $c local.get 0 br_table $b 0 $c end end end
+  (if (result i32) (i32.eqz (local.get 0)) (then (i32.load offset=8 align=2 (i32.const 4294967295))) (else (call $f (local.get $x) (local.get 1)))) i32.add
+  local.get 3 if else end (call_indirect (type 1) (local.get 3)) i64.const 5 local.set $y)
+(func global.get $g drop) (func (param i64) (drop (i32.const 0))) (table 1 2) (memory 3) (global $g (mut i32) (i32.const 7))
+(export "a b" (func $f)) (export "m" (memory 0)) (start 1) (elem (i32.const 0) $f 1) (data (i32.const 1) "x\0a" "y"))`
+	for i := range len(whole) {
+		for _, b := range " \n()\";$-=_.019azA\\\t\x00\xff" {
+			if !yield(whole[:i] + string([]byte{byte(b)}) + whole[i+1:]) {
+				return
+			}
+		}
+		for _, cut := range []string{whole[:i], whole[i:], whole[:i] + whole[i+1:], whole[:i] + whole[i:i+1] + whole[i:], whole[:i] + " " + whole[i:], whole[:i] + whole} {
+			if !yield(cut) {
+				return
+			}
+		}
+	}
+}
+
+// P1: whatever the text is, Assemble ends with one error that it may tell, a place that there is, and nothing else. P7, P10: without an error there are bytes that are a module, though it need not fit; if it does, they are packed already, and what is printed of them is assembled to them.
+func TestAssembleAnswers(t *testing.T) {
+	taken, fitting := 0, 0
+	for text := range changedText {
+		a := answerToText(text)
+		switch {
+		case a.errno == api.OK:
+			taken++
+			of := answerTo(a.bytes)
+			if a.at != 0 || of.errno == api.ErrBytes || of.errno == api.ErrLong {
+				t.Errorf("P1, P7: of %q: %v; of its bytes: %v", text, a, of)
+			}
+			if of.errno != api.OK {
+				break
+			}
+			fitting++
+			if back := answerToText(of.printed); of.packed != a.bytes || back != a {
+				t.Errorf("P7, P10: of %q: %v; of its bytes: %v; of what is printed: %v", text, a, of, back)
+			}
+		case a.bytes != "":
+			t.Errorf("P1: of %q there is more than an error: %v", text, a)
+		case a.errno != api.ErrText && a.errno != api.ErrMatch && a.errno != api.ErrTwice && a.errno != api.ErrName:
+			t.Errorf("P1: of %q Assemble tells the error %d", text, a.errno)
+		case a.at < 0 || a.at > len(text) || a.errno != api.ErrText && a.at >= len(text):
+			t.Errorf("P1: of %q Assemble tells the place %d beside %d", text, a.at, a.errno)
+		case a.errno == api.ErrText:
+			canStand(t, text[:a.at])
+		}
+	}
+	if taken < 500 || fitting < 100 {
+		t.Errorf("only %d texts were taken, of which %d fit", taken, fitting)
+	}
+}
+
+// canStand asks of what stands ahead of a token that is refused whether none ahead of it is: by itself it ends too early, or is all of a module.
+func canStand(t *testing.T, ahead string) {
+	t.Helper()
+	if a := answerToText(ahead); a.errno == api.ErrText && a.at != len(ahead) {
+		t.Errorf("P7: of %q: %v, though it can stand ahead of what cannot", ahead, a)
+	}
+}
+
+// P10 asks for texts that are not too long: others are printed, but cannot be assembled.
+func TestAssembleOfLongPrint(t *testing.T) {
+	bytes, _ := build(t, head+oneFunc+"0a [ 01 [ 00 "+many(50, "03 40")+many(4000, "01")+many(51, "0b")+"] ]")
+	printed, errno, _ := loom.Print(bytes)
+	if errno != api.OK || len(printed) <= api.MaxText {
+		t.Fatalf("%d, %d", errno, len(printed))
+	}
+	if got := answerToText(printed); got != (textAnswer{errno: api.ErrLong}) {
+		t.Errorf("P7: %v", got)
 	}
 }
 
@@ -95,20 +198,25 @@ func TestCallsEnd(t *testing.T) {
 	}
 }
 
-// P2: what is answered hangs on the bytes alone, whatever was asked ahead, or is asked at the same time.
-func TestAnswersHangOnBytes(t *testing.T) {
+// P2: what is answered hangs on the bytes, or the text, alone, whatever was asked ahead, or is asked at the same time.
+func TestAnswersHangOnArguments(t *testing.T) {
+	hangOnArguments(t, changed(t), answerTo)
+	hangOnArguments(t, changedText, answerToText)
+}
+
+func hangOnArguments[A comparable](t *testing.T, arguments iter.Seq[string], ask func(string) A) {
 	var all []string
-	for bytes := range changed(t) {
-		if len(all)%7 == 0 || len(bytes)%5 == 0 {
-			all = append(all, bytes)
+	for one := range arguments {
+		if len(all)%7 == 0 || len(one)%5 == 0 {
+			all = append(all, one)
 		}
 	}
-	first := make([]answer, len(all))
-	for i, bytes := range all {
-		first[i] = answerTo(bytes)
+	first := make([]A, len(all))
+	for i, one := range all {
+		first[i] = ask(one)
 	}
 	for i := len(all) - 1; i >= 0; i-- {
-		if again := answerTo(all[i]); again != first[i] {
+		if again := ask(all[i]); again != first[i] {
 			t.Errorf("P2: of %x: %v, then %v", all[i], first[i], again)
 		}
 	}
@@ -118,7 +226,7 @@ func TestAnswersHangOnBytes(t *testing.T) {
 		go func() {
 			defer group.Done()
 			for i := worker; i < len(all); i += 3 {
-				if again := answerTo(strings.Clone(all[i])); again != first[i] {
+				if again := ask(strings.Clone(all[i])); again != first[i] {
 					t.Errorf("P2: of %x: %v, then %v", all[i], first[i], again)
 				}
 			}

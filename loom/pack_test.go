@@ -17,6 +17,7 @@ func packs(t *testing.T, text, to string) {
 			t.Errorf("P5: Pack(%x), of %s = %x, %d, %d, want %x", b, text, got, errno, at, want)
 		}
 	}
+	comesBack(t, bytes)
 }
 
 // shortens asks whether numbers that are longer than they need to be are all that is packed.

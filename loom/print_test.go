@@ -30,6 +30,7 @@ func prints(t *testing.T, text string, lines ...string) {
 	if got, errno, at := loom.Print(bytes); got != want || errno != api.OK || at != 0 {
 		t.Errorf("P6: Print(%s) = %s, %d, %d, want %s", text, got, errno, at, want)
 	}
+	comesBack(t, bytes)
 }
 
 func TestPrintSample(t *testing.T) {
