@@ -1,4 +1,4 @@
-// Package fault: the error with which a reader or a check gives up.
+// Package fault: the error with which a reader, a check, or what makes an instance gives up.
 package fault
 
 import (

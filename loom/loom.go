@@ -7,6 +7,7 @@ import (
 	"loom/fault"
 	"loom/fit"
 	"loom/module"
+	"loom/run"
 	"loom/show"
 )
 
@@ -79,21 +80,31 @@ func Assemble(text string) (string, api.Errno, int) {
 }
 
 // Instance is a module that can be run.
-type Instance struct{}
+type Instance struct {
+	machine run.Machine
+}
 
 // New makes one (P8).
-func New(bytes string) (*Instance, api.Errno, int) { return nil, api.OK, 0 }
+func New(bytes string) (*Instance, api.Errno, int) {
+	m, errno, at := fitting(bytes)
+	if errno != api.OK {
+		return nil, errno, at
+	}
+	var made *Instance
+	errno, at = givenUp(func() { made = &Instance{machine: run.New(m)} })
+	return made, errno, at
+}
 
 // Call calls a function that is exported (P9).
 func (i *Instance) Call(name string, args []int64, fuel int) (api.Done, api.Errno) {
-	return api.Done{}, api.OK
+	return i.machine.Call(name, args, fuel)
 }
 
 // Global tells what a global that is exported is (P9).
-func (i *Instance) Global(name string) (int64, api.Errno) { return 0, api.OK }
+func (i *Instance) Global(name string) (int64, api.Errno) { return i.machine.Global(name) }
 
 // Bytes tells what stands in the memory (P9).
-func (i *Instance) Bytes(from int, n int) (string, api.Errno) { return "", api.OK }
+func (i *Instance) Bytes(from int, n int) (string, api.Errno) { return i.machine.Bytes(from, n) }
 
 // Pages tells how many pages the memory has (P9).
-func (i *Instance) Pages() int { return 0 }
+func (i *Instance) Pages() int { return i.machine.Pages() }
