@@ -60,9 +60,14 @@ func odd() []string {
 	}
 }
 
-// changed tells the sample with each byte changed to each other one, and all that is cut off or doubled.
+// changed tells what comes of the sample.
 func changed(t *testing.T) iter.Seq[string] {
 	whole, _ := build(t, head+sample)
+	return changesOf(whole)
+}
+
+// changesOf tells bytes with each of them changed to each other one, and all that is cut off or doubled.
+func changesOf(whole string) iter.Seq[string] {
 	return func(yield func(string) bool) {
 		for i := range len(whole) {
 			for b := range 256 {
