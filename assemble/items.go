@@ -56,7 +56,8 @@ func (a *assembler) perhaps(word string, item func()) {
 func (a *assembler) typeItem() {
 	a.declare(&a.found.types, len(a.m.Types))
 	a.TakeOpen("func")
-	a.m.Types = append(a.m.Types, a.kinds(nil))
+	kinds := a.kinds(nil)
+	a.m.Types = append(a.m.Types, kinds)
 	a.closeList()
 }
 

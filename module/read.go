@@ -112,7 +112,8 @@ func (m *Module) content(r *scan.Reader, which byte) {
 func list[T any](r *scan.Reader, most int, take func(*scan.Reader) T) []T {
 	var all []T
 	for range r.Count(most) {
-		all = append(all, take(r))
+		one := take(r)
+		all = append(all, one)
 	}
 	return all
 }
@@ -192,7 +193,8 @@ func (m *Module) takeCodes(r *scan.Reader) {
 		scan.Refuse(many.At)
 	}
 	for range m.Funcs {
-		m.Codes = append(m.Codes, takeCode(r))
+		c := takeCode(r)
+		m.Codes = append(m.Codes, c)
 	}
 }
 

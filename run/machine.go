@@ -38,7 +38,8 @@ type export struct {
 
 // New gives a module that fits as it is behind its start. It gives up where something lies outside, or where the start is broken off.
 func New(from *module.Module) Machine {
-	m := Machine{types: from.Types, functions: prepare.Functions(from), exports: exportsOf(from)}
+	functions := prepare.Functions(from)
+	m := Machine{types: from.Types, functions: functions, exports: exportsOf(from)}
 	for _, g := range from.Globals {
 		m.globals = append(m.globals, g.First.Value)
 	}
@@ -135,8 +136,10 @@ func (m *Machine) run(function int, args []int64, fuel int) api.Done {
 		r.put(taken(args[i], kind))
 	}
 	r.enter(function)
-	done := api.Done{Why: r.toEnd(), Left: r.fuel}
-	if done.Why == 0 {
+	// In one expression Go would leave open whether the fuel is read ahead of the call that spends it.
+	why := r.toEnd()
+	done := api.Done{Why: why, Left: r.fuel}
+	if why == 0 {
 		done.Results = append(done.Results, r.stack...)
 	}
 	return done
